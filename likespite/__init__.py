@@ -1,0 +1,1 @@
+"""Likespite: folk who settle by liking and by spite."""

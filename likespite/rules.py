@@ -1,0 +1,146 @@
+"""Tables, rules and states, and how folk settle by them."""
+
+from likespite.errors import BadNumber, BadRules, BadState
+from likespite.webs import check_folk, check_web, is_whole, looks_of
+
+MOST_TICKS = 200
+
+
+def rows_of(tops):
+    """All rows of moods of folk with these tops, ascending."""
+    rows = [()]
+    for top in tops:
+        rows = [row + (mood,) for row in rows for mood in range(top + 1)]
+    return rows
+
+
+def many_rows(web, folk):
+    """How many rows of moods one of the folk can see."""
+    tops, _ = web
+    many = 1
+    for one, _ in looks_of(web, folk):
+        many = many * (tops[one] + 1)
+    return many
+
+
+def goes_along(table, step, size, sign):
+    """Whether a table never goes against a sign as one of the moods seen rises alone.
+
+    That mood has so many values (size), and the rows of two neighbouring ones lie so far apart (step).
+    """
+    places = [place for place in range(len(table)) if (place // step) % size < size - 1]
+    return all((table[place + step] - table[place]) * sign >= 0 for place in places)
+
+
+def is_table(web, folk, value):
+    """Whether a value is a table of one of the folk."""
+    tops, _ = web
+    if not isinstance(value, tuple) or len(value) != many_rows(web, folk):
+        return False
+    if not all(is_whole(mood, 0, tops[folk]) for mood in value):
+        return False
+    step = 1
+    # The mood of the last one looked at changes from each row to the next one, so the last one goes first.
+    for one, sign in looks_of(web, folk)[::-1]:
+        size = tops[one] + 1
+        if not goes_along(value, step, size, sign):
+            return False
+        step = step * size
+    return True
+
+
+def check_rules(web, rules):
+    """Refuse what is no rules of a web."""
+    tops, _ = web
+    if not isinstance(rules, tuple) or len(rules) != len(tops):
+        raise BadRules(None)
+    for folk, table in enumerate(rules):
+        if not is_table(web, folk, table):
+            raise BadRules(folk)
+
+
+def is_state(web, value):
+    """Whether a value is a state of a web."""
+    tops, _ = web
+    if not isinstance(value, tuple) or len(value) != len(tops):
+        return False
+    return all(is_whole(mood, 0, top) for mood, top in zip(value, tops))
+
+
+def check_state(web, state):
+    """Refuse what is no state of a web."""
+    if not is_state(web, state):
+        raise BadState()
+
+
+def check_standing(web, rules, state):
+    """Refuse what is no web, no rules of it or no state of it, in this sequence."""
+    check_web(web)
+    check_rules(web, rules)
+    check_state(web, state)
+
+
+def mood_told(web, rules, state, folk):
+    """The mood that the table of one of the folk tells in a state."""
+    tops, _ = web
+    place = 0
+    for one, _ in looks_of(web, folk):
+        place = place * (tops[one] + 1) + state[one]
+    return rules[folk][place]
+
+
+def state_told(web, rules, state):
+    """The state in which everybody has the mood that theirs tells in a state."""
+    return tuple([mood_told(web, rules, state, folk) for folk in range(len(state))])
+
+
+def settled_states(web, rules):
+    """The ascending tuple of all settled states."""
+    tops, _ = web
+    return tuple([state for state in rows_of(tops) if state_told(web, rules, state) == state])
+
+
+def told(web, rules, state, folk):
+    """The mood that the table of one of the folk tells in a state."""
+    check_standing(web, rules, state)
+    check_folk(web, folk)
+    return mood_told(web, rules, state, folk)
+
+
+def is_settled(web, rules, state):
+    """Whether everybody has the mood that their table tells."""
+    check_standing(web, rules, state)
+    return state_told(web, rules, state) == state
+
+
+def settled(web, rules):
+    """The ascending tuple of all settled states."""
+    check_web(web)
+    check_rules(web, rules)
+    return settled_states(web, rules)
+
+
+def run(web, rules, state, ticks):
+    """The tuple of the states at the ticks from 0, which is now, to a last one."""
+    check_standing(web, rules, state)
+    if not is_whole(ticks, 0, MOST_TICKS):
+        raise BadNumber()
+    states = [state]
+    for _ in range(ticks):
+        states.append(state_told(web, rules, states[-1]))
+    return tuple(states)
+
+
+def settled_by(web, rules, state):
+    """The first tick at which the state is settled, None if it never is."""
+    check_standing(web, rules, state)
+    # A state that comes again, not being settled, comes again and again: then there is no such tick.
+    seen = set()
+    now = state
+    while now not in seen:
+        seen.add(now)
+        later = state_told(web, rules, now)
+        if later == now:
+            return len(seen) - 1
+        now = later
+    return None

@@ -1,0 +1,81 @@
+"""What the tests share: some webs with rules, strange values, and the document's words said once more."""
+
+from itertools import product
+
+from likespite.errors import BadFolk, BadNumber, BadRules, BadState, BadWeb
+
+
+def digits(words):
+    """Tables written as a word of digits each."""
+    return tuple(tuple(int(sign) for sign in word) for word in words.split())
+
+
+FRIENDS = ((1, 1), ((0, 1, 1), (1, 0, 1)))
+CHASE = ((1, 1), ((0, 1, 1), (1, 0, -1)))
+# The tops are unlike, so that a table's length and its moods come from unlike folk.
+MIXED = ((1, 3, 2), ((0, 1, 1), (0, 2, -1), (1, 0, 1), (1, 2, 1), (2, 2, 1)))
+MIXED_RULES = digits("0011 03 001012112222000001012122")
+# 2 looks at 0 (liking), 1 (spite) and themselves (liking).
+SELF = ((2, 1, 2), ((0, 2, 1), (1, 2, -1), (2, 1, -1), (2, 2, 1)))
+SELF_RULES = digits("1 110 001000112011222012")
+# Found by search: from LONG_STATE it takes 227 ticks until the one settled state is reached.
+LONG = (
+    (3, 3, 3, 3, 3, 3),
+    (
+        (0, 5, -1), (1, 4, -1), (2, 0, -1), (2, 2, -1), (2, 5, 1),
+        (3, 2, 1), (3, 5, -1), (4, 3, 1), (5, 1, 1),
+    ),
+)
+LONG_RULES = digits(
+    "2210 0123 2333112301230002 0123 3210"
+    " 3321332133313333221032103211322200000000111032100000000010001100"
+)
+LONG_STATE = (3, 1, 3, 2, 3, 3)
+
+# No web, no rules, no state, and no number of folk or ticks, whatever web it is.
+STRANGE = [
+    None, True, False, -1, 10**30, -(10**30), "", "web", "0", (), [], {}, [1], (None,), (True,), ((),), ("0",),
+    {"web": ((1,), ())}, {0: 0, (1, 2): [3]}, [((1,), ())], [[0, 1], [0, 1]], ((), ()), (None, None),
+    ("folk", "look"), ([1], []), ({}, {}), (-1, -1), (10**30,), ((((1,),),), (((),),)),
+]
+
+
+def rows_by_word(web, folk):
+    """Those at whom one looks, with the signs, and the rows of their moods, ascending."""
+    tops, looks = web
+    seen = sorted((one, sign) for one, other, sign in looks if other == folk)
+    rows = sorted(product(*[range(tops[one] + 1) for one, _ in seen]))
+    return seen, rows
+
+
+def table_by_word(web, folk, table):
+    """Whether moods, one for each row, never go against a look, every two rows compared."""
+    seen, rows = rows_by_word(web, folk)
+    for row, mood in zip(rows, table):
+        for later, other_mood in zip(rows, table):
+            unlike = [k for k in range(len(row)) if row[k] != later[k]]
+            if len(unlike) == 1 and row < later:
+                sign = seen[unlike[0]][1]
+                if (sign == 1 and other_mood < mood) or (sign == -1 and other_mood > mood):
+                    return False
+    return True
+
+
+def told_by_word(web, rules, state, folk):
+    """What one's table tells, by looking the row up."""
+    seen, rows = rows_by_word(web, folk)
+    return rules[folk][rows.index(tuple(state[one] for one, _ in seen))]
+
+
+def states_by_word(web):
+    """All states, ascending."""
+    return sorted(product(*[range(top + 1) for top in web[0]]))
+
+
+def error_of(call, *values):
+    """The class and the fields of the error that a call raises, None if it raises none of the package's."""
+    try:
+        call(*values)
+    except (BadWeb, BadRules, BadState, BadFolk, BadNumber) as error:
+        return error.__class__, vars(error)
+    return None
