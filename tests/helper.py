@@ -1,8 +1,9 @@
 """What the tests share: some webs with rules, strange values, and the document's words said once more."""
 
-from itertools import product
+from itertools import permutations, product
+from random import Random
 
-from likespite.errors import BadFolk, BadNumber, BadRules, BadState, BadWeb
+from likespite.errors import FolkError
 
 
 def digits(words):
@@ -72,10 +73,85 @@ def states_by_word(web):
     return sorted(product(*[range(top + 1) for top in web[0]]))
 
 
+def all_tables_by_word(web, folk):
+    """All tables that one may have, ascending, found among all tuples of moods."""
+    _, rows = rows_by_word(web, folk)
+    moods = range(web[0][folk] + 1)
+    return [table for table in product(moods, repeat=len(rows)) if table_by_word(web, folk, table)]
+
+
+def all_rules_by_word(web):
+    """All rules of a web, ascending."""
+    return list(product(*[all_tables_by_word(web, folk) for folk in range(len(web[0]))]))
+
+
+def settled_by_word(web, rules):
+    """All settled states, ascending."""
+    return tuple(
+        state for state in states_by_word(web)
+        if all(told_by_word(web, rules, state, folk) == mood for folk, mood in enumerate(state))
+    )
+
+
+def rings_by_word(web):
+    """All rings, ascending, found among all rows of unlike folk."""
+    tops, looks = web
+    numbers = {(one, other): number for number, (one, other, _) in enumerate(looks)}
+    found = set()
+    for many in range(1, len(tops) + 1):
+        for row in permutations(range(len(tops)), many):
+            pairs = [(row[k], row[(k + 1) % many]) for k in range(many)]
+            if row[0] == min(row) and all(pair in numbers for pair in pairs):
+                ring = [numbers[pair] for pair in pairs]
+                least = ring.index(min(ring))
+                found.add(tuple(ring[least:] + ring[:least]))
+    return tuple(sorted(found))
+
+
+def is_even_by_word(web, ring):
+    """Whether the signs of a ring have the product 1."""
+    product_of_signs = 1
+    for number in ring:
+        product_of_signs *= web[1][number][2]
+    return product_of_signs == 1
+
+
+def some_web(random, most_folk=6, most_top=3, most_looks=14, most_of_one=4):
+    """A web by a source of random numbers, with looks up to a number that is itself by chance."""
+    many = random.randint(1, most_folk)
+    pairs = [(one, other) for one in range(many) for other in range(many)]
+    random.shuffle(pairs)
+    looks = []
+    for one, other in pairs[:random.randint(0, most_looks)]:
+        if len([look for look in looks if look[1] == other]) < most_of_one:
+            looks.append((one, other, random.choice((1, -1))))
+    return tuple(random.randint(1, most_top) for _ in range(many)), tuple(sorted(looks))
+
+
+def some_webs(seed, many, **limits):
+    """So many webs, the same ones for the same seed."""
+    random = Random(seed)
+    return [some_web(random, **limits) for _ in range(many)]
+
+
+def some_rules(random, web):
+    """Rules of a web by a source of random numbers: each row has the greatest of the moods drawn below it."""
+    tables = []
+    for folk, top in enumerate(web[0]):
+        seen, rows = rows_by_word(web, folk)
+        drawn = {row: random.randint(0, top) for row in rows}
+        signs = [sign for _, sign in seen]
+        tables.append(tuple(
+            max(drawn[below] for below in rows if all((a - b) * sign >= 0 for a, b, sign in zip(row, below, signs)))
+            for row in rows
+        ))
+    return tuple(tables)
+
+
 def error_of(call, *values):
     """The class and the fields of the error that a call raises, None if it raises none of the package's."""
     try:
         call(*values)
-    except (BadWeb, BadRules, BadState, BadFolk, BadNumber) as error:
+    except FolkError as error:
         return error.__class__, vars(error)
     return None

@@ -5,10 +5,16 @@ import unittest
 from itertools import product
 
 from helper import FRIENDS, MIXED, MIXED_RULES, error_of
-from likespite.errors import BadFolk, BadNumber, BadRules, BadState, BadWeb
+from likespite.errors import BadFolk, BadNumber, BadRing, BadRules, BadState, BadWeb, HasOdd, NoEven, NoOdd
+from likespite.rings import (
+    at_least_one, at_most_one, even_ring, is_even, just_one, odd_ring, parts, rings, shows_even_ring, shows_odd_ring,
+)
 from likespite.rules import is_settled, run, settled, settled_by, told
+from likespite.sides import high, low, sides
+from likespite.spoils import mute, twofold
 from likespite.webs import looked_at
 
+# Functions with the names of their arguments, one of CHOICES each.
 FUNCTIONS = (
     (looked_at, ("web", "folk")),
     (told, ("web", "rules", "state", "folk")),
@@ -16,7 +22,33 @@ FUNCTIONS = (
     (settled, ("web", "rules")),
     (run, ("web", "rules", "state", "ticks")),
     (settled_by, ("web", "rules", "state")),
+    (rings, ("web",)),
+    (is_even, ("web", "ring")),
+    (even_ring, ("web",)),
+    (odd_ring, ("web",)),
+    (shows_even_ring, ("web", "value")),
+    (shows_odd_ring, ("web", "value")),
+    (at_most_one, ("web",)),
+    (at_least_one, ("web",)),
+    (just_one, ("web",)),
+    (parts, ("web",)),
+    (sides, ("web",)),
+    (low, ("web", "rules")),
+    (low, ("knot", "knot rules")),
+    (high, ("web", "rules")),
+    (high, ("knot", "knot rules")),
+    (twofold, ("web",)),
+    (twofold, ("knot",)),
+    (mute, ("web",)),
+    (mute, ("knot",)),
 )
+# The errors that come behind those of all arguments.
+BEHIND = {
+    (low, "knot"): HasOdd,
+    (high, "knot"): HasOdd,
+    (twofold, "knot"): NoEven,
+    (mute, "web"): NoOdd,
+}
 COPY = ((0, 1), (0, 1))
 # For each argument a value that is allowed, then wrong ones with the error of each.
 CHOICES = {
@@ -54,7 +86,37 @@ CHOICES = {
         (201, (BadNumber, {})),
         ({}, (BadNumber, {})),
     ),
+    "ring": (
+        ((0, 1), None),
+        (None, (BadRing, {})),
+        ([0, 1], (BadRing, {})),
+        ((1, 0), (BadRing, {})),
+        ((0, True), (BadRing, {})),
+    ),
+    "value": (
+        ((0, 1), None),
+        (None, None),
+        ([0, [1]], None),
+        ({"ring": (0, 1)}, None),
+    ),
+    "knot": (
+        (((1,), ((0, 0, -1),)), None),
+        (None, (BadWeb, {"part": "web"})),
+        (((1,), ((0, 0, -1.0),)), (BadWeb, {"part": "looks"})),
+    ),
+    "knot rules": (
+        (((1, 0),), None),
+        (None, (BadRules, {"folk": None})),
+        (((0, 1),), (BadRules, {"folk": 0})),
+    ),
 }
+
+
+def first_error(function, names, chosen):
+    """The leftmost argument's error, the one that comes behind all if there is none."""
+    behind = BEHIND.get((function, names[0]))
+    errors = [error for _, error in chosen if error is not None]
+    return (errors + [behind and (behind, {})])[0]
 
 
 class FirstError(unittest.TestCase):
@@ -62,7 +124,7 @@ class FirstError(unittest.TestCase):
         for function, names in FUNCTIONS:
             for chosen in product(*[CHOICES[name] for name in names]):
                 values = [value for value, _ in chosen]
-                expected = next((error for _, error in chosen if error is not None), None)
+                expected = first_error(function, names, chosen)
                 with self.subTest(function=function.__name__, values=values):
                     self.assertEqual(error_of(function, *values), expected)
 
@@ -83,8 +145,9 @@ class FirstError(unittest.TestCase):
     def test_equal_arguments_have_equal_answers(self):
         for function, names in FUNCTIONS:
             values = [CHOICES[name][0][0] for name in names]
-            first = function(*values)
-            self.assertEqual(function(*copy.deepcopy(values)), first)
+            if (function, names[0]) not in BEHIND:
+                first = function(*values)
+                self.assertEqual(function(*copy.deepcopy(values)), first)
 
 
 if __name__ == "__main__":

@@ -22,6 +22,13 @@ INTERFACE = {
         "told": ["web", "rules", "state", "folk"], "is_settled": ["web", "rules", "state"], "settled": ["web", "rules"],
         "run": ["web", "rules", "state", "ticks"], "settled_by": ["web", "rules", "state"],
     },
+    "rings": {
+        "rings": ["web"], "parts": ["web"], "is_even": ["web", "ring"], "shows_even_ring": ["web", "value"],
+        "shows_odd_ring": ["web", "value"], "at_most_one": ["web"], "at_least_one": ["web"], "just_one": ["web"],
+        "even_ring": ["web"], "odd_ring": ["web"],
+    },
+    "sides": {"sides": ["web"], "low": ["web", "rules"], "high": ["web", "rules"]},
+    "spoils": {"twofold": ["web"], "mute": ["web"]},
 }
 
 
