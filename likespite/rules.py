@@ -23,11 +23,23 @@ def many_rows(web, folk):
     return many
 
 
-def goes_along(table, step, size, sign):
-    """Whether a table never goes against a sign as one of the moods seen rises alone.
+def ways_of(web, folk):
+    """For each look of one of the folk, the last one first, how the rows of moods go along it.
 
-    That mood has so many values (size), and the rows of two neighbouring ones lie so far apart (step).
+    That is how far apart the rows of two neighbouring moods lie, how many moods there are, and the sign of the look.
     """
+    tops, _ = web
+    found = []
+    # The mood of the last one looked at changes from each row to the next one.
+    step = 1
+    for one, sign in looks_of(web, folk)[::-1]:
+        found.append((step, tops[one] + 1, sign))
+        step = step * (tops[one] + 1)
+    return found
+
+
+def goes_along(table, step, size, sign):
+    """Whether a table never goes against a sign as one of the moods seen rises alone (see ways_of)."""
     places = [place for place in range(len(table)) if (place // step) % size < size - 1]
     return all((table[place + step] - table[place]) * sign >= 0 for place in places)
 
@@ -39,14 +51,7 @@ def is_table(web, folk, value):
         return False
     if not all(is_whole(mood, 0, tops[folk]) for mood in value):
         return False
-    step = 1
-    # The mood of the last one looked at changes from each row to the next one, so the last one goes first.
-    for one, sign in looks_of(web, folk)[::-1]:
-        size = tops[one] + 1
-        if not goes_along(value, step, size, sign):
-            return False
-        step = step * size
-    return True
+    return all(goes_along(value, step, size, sign) for step, size, sign in ways_of(web, folk))
 
 
 def check_rules(web, rules):
@@ -80,13 +85,18 @@ def check_standing(web, rules, state):
     check_state(web, state)
 
 
-def mood_told(web, rules, state, folk):
-    """The mood that the table of one of the folk tells in a state."""
+def place_seen(web, state, folk):
+    """The place, among the rows of moods that one of the folk can see, of the row in a state."""
     tops, _ = web
     place = 0
     for one, _ in looks_of(web, folk):
         place = place * (tops[one] + 1) + state[one]
-    return rules[folk][place]
+    return place
+
+
+def mood_told(web, rules, state, folk):
+    """The mood that the table of one of the folk tells in a state."""
+    return rules[folk][place_seen(web, state, folk)]
 
 
 def state_told(web, rules, state):

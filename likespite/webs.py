@@ -1,6 +1,6 @@
 """Webs: folk with the tops of their moods, and the looks of folk at folk."""
 
-from likespite.errors import BadFolk, BadWeb
+from likespite.errors import BadFolk, BadLot, BadWeb
 
 MOST_FOLK = 6
 MOST_TOP = 3
@@ -69,6 +69,14 @@ def check_folk(web, folk):
     tops, _ = web
     if not is_whole(folk, 0, len(tops) - 1):
         raise BadFolk()
+
+
+def check_lot(many, lot):
+    """Refuse what is no ascending tuple of numbers below many."""
+    if not isinstance(lot, tuple) or not all(is_whole(number, 0, many - 1) for number in lot):
+        raise BadLot()
+    if list(lot) != sorted(set(lot)):
+        raise BadLot()
 
 
 def looks_of(web, folk):

@@ -5,13 +5,19 @@ import unittest
 from itertools import product
 
 from helper import FRIENDS, MIXED, MIXED_RULES, error_of
-from likespite.errors import BadFolk, BadNumber, BadRing, BadRules, BadState, BadWeb, HasOdd, NoEven, NoOdd
+from likespite.chains import depth, depths
+from likespite.counts import count_rules, settled_counts, tables
+from likespite.errors import (
+    BadFolk, BadLot, BadNumber, BadRing, BadRules, BadState, BadWeb, BadWord, HasOdd, HasRing, NoEven, NoOdd,
+)
+from likespite.pins import bound, bound_lot, cuts, pins
 from likespite.rings import (
     at_least_one, at_most_one, even_ring, is_even, just_one, odd_ring, parts, rings, shows_even_ring, shows_odd_ring,
 )
 from likespite.rules import is_settled, run, settled, settled_by, told
 from likespite.sides import high, low, sides
 from likespite.spoils import mute, twofold
+from likespite.turns import turned, turned_rules, turned_state
 from likespite.webs import looked_at
 
 # Functions with the names of their arguments, one of CHOICES each.
@@ -41,6 +47,20 @@ FUNCTIONS = (
     (twofold, ("knot",)),
     (mute, ("web",)),
     (mute, ("knot",)),
+    (depths, ("web",)),
+    (depths, ("chain",)),
+    (depth, ("web",)),
+    (depth, ("chain",)),
+    (pins, ("web",)),
+    (bound, ("web",)),
+    (bound_lot, ("web",)),
+    (cuts, ("web", "word")),
+    (turned, ("web", "lot")),
+    (turned_state, ("web", "state", "lot")),
+    (turned_rules, ("web", "rules", "lot")),
+    (tables, ("web", "folk")),
+    (count_rules, ("web",)),
+    (settled_counts, ("web",)),
 )
 # The errors that come behind those of all arguments.
 BEHIND = {
@@ -48,6 +68,8 @@ BEHIND = {
     (high, "knot"): HasOdd,
     (twofold, "knot"): NoEven,
     (mute, "web"): NoOdd,
+    (depths, "web"): HasRing,
+    (depth, "web"): HasRing,
 }
 COPY = ((0, 1), (0, 1))
 # For each argument a value that is allowed, then wrong ones with the error of each.
@@ -98,6 +120,24 @@ CHOICES = {
         (None, None),
         ([0, [1]], None),
         ({"ring": (0, 1)}, None),
+    ),
+    "lot": (
+        ((0, 1), None),
+        (None, (BadLot, {})),
+        ([0, 1], (BadLot, {})),
+        ((1, 0), (BadLot, {})),
+        ((0, True), (BadLot, {})),
+    ),
+    "word": (
+        ("any", None),
+        (None, (BadWord, {})),
+        ("Odd", (BadWord, {})),
+        (["odd"], (BadWord, {})),
+    ),
+    "chain": (
+        (((1, 2), ((1, 0, -1),)), None),
+        ([], (BadWeb, {"part": "web"})),
+        (((1, 2), ((1, 0),)), (BadWeb, {"part": "looks"})),
     ),
     "knot": (
         (((1,), ((0, 0, -1),)), None),

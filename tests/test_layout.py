@@ -29,6 +29,12 @@ INTERFACE = {
     },
     "sides": {"sides": ["web"], "low": ["web", "rules"], "high": ["web", "rules"]},
     "spoils": {"twofold": ["web"], "mute": ["web"]},
+    "chains": {"depth": ["web"], "depths": ["web"]},
+    "pins": {"pins": ["web"], "cuts": ["web", "word"], "bound": ["web"], "bound_lot": ["web"]},
+    "turns": {
+        "turned": ["web", "lot"], "turned_state": ["web", "state", "lot"], "turned_rules": ["web", "rules", "lot"],
+    },
+    "counts": {"tables": ["web", "folk"], "settled_counts": ["web"], "count_rules": ["web"]},
 }
 
 
