@@ -79,7 +79,9 @@ class Tables(unittest.TestCase):
             self.assertIn(len(found), (980, 887))
 
     def test_too_many(self):
+        # Nobody can have just 3000 tables: 1764 is the next number below (in test_numbers), 3490 the next one above.
         for web in (
+            seeing(2, (1, 1, 3), (1, -1, -1)),
             seeing(3, (2, 3), (1, 1)), seeing(1, (2, 2, 3), (1, -1, 1)), seeing(1, (1, 1, 1, 3), (1, -1, 1, 1)),
             seeing(3, (3, 3, 3, 3), (1, -1, 1, -1)), seeing(2, (1, 1, 1, 1), (1,) * 4),
         ):
