@@ -104,6 +104,16 @@ def state_told(web, rules, state):
     return tuple([mood_told(web, rules, state, folk) for folk in range(len(state))])
 
 
+def lot_told(web, rules, state, lot):
+    """The state in which those of a lot alone have taken over what their tables tell."""
+    return tuple([mood_told(web, rules, state, folk) if folk in lot else mood for folk, mood in enumerate(state)])
+
+
+def uneasy_folk(web, rules, state):
+    """The ascending list of those whose mood isn't what their table tells."""
+    return [folk for folk, mood in enumerate(state) if mood_told(web, rules, state, folk) != mood]
+
+
 def settled_states(web, rules):
     """The ascending tuple of all settled states."""
     tops, _ = web

@@ -2,7 +2,7 @@
 
 from likespite.errors import HasOdd
 from likespite.rings import all_parts, led_from, odd_rings
-from likespite.rules import check_rules, mood_told
+from likespite.rules import check_rules, lot_told
 from likespite.webs import check_web
 
 
@@ -30,20 +30,15 @@ def parts_in_turn(web):
     return [part for _, part in sorted(counted)]
 
 
-def part_told(web, rules, state, part):
-    """The state a tick of a part alone later."""
-    return tuple([mood_told(web, rules, state, folk) if folk in part else mood for folk, mood in enumerate(state)])
-
-
 def come_from(web, rules, side):
     """The settled state that part by part is come to from the low ends for the side 1, the high ends for -1."""
     tops, _ = web
     state = tuple([0 if own == side else top for own, top in zip(all_sides(web), tops)])
     for part in parts_in_turn(web):
-        later = part_told(web, rules, state, part)
+        later = lot_told(web, rules, state, part)
         while later != state:
             state = later
-            later = part_told(web, rules, state, part)
+            later = lot_told(web, rules, state, part)
     return state
 
 

@@ -4,11 +4,13 @@ import copy
 import unittest
 from itertools import product
 
-from helper import FRIENDS, MIXED, MIXED_RULES, error_of
+from helper import CHASE, FRIENDS, MIXED, MIXED_RULES, error_of
+from likespite.benches import Bench
 from likespite.chains import depth, depths
 from likespite.counts import count_rules, settled_counts, tables
 from likespite.errors import (
-    BadFolk, BadLot, BadNumber, BadRing, BadRules, BadState, BadWeb, BadWord, HasOdd, HasRing, NoEven, NoOdd,
+    BadFolk, BadLine, BadLot, BadNumber, BadRing, BadRules, BadState, BadStep, BadWeb, BadWord, HasOdd, HasRing, NoEven,
+    NoOdd,
 )
 from likespite.pins import bound, bound_lot, cuts, pins
 from likespite.rings import (
@@ -17,8 +19,39 @@ from likespite.rings import (
 from likespite.rules import is_settled, run, settled, settled_by, told
 from likespite.sides import high, low, sides
 from likespite.spoils import mute, twofold
+from likespite.tales import pair_by, ring_tale, rules_by
+from likespite.texts import read_rules, read_state, read_web, rules_text, state_text, web_text
 from likespite.turns import turned, turned_rules, turned_state
 from likespite.webs import looked_at
+
+
+def bench_look(web, rules, state, folk):
+    """A bench's state behind a look."""
+    bench = Bench(web, rules, state)
+    bench.look(folk)
+    return bench.state, bench.uneasy, bench.near
+
+
+def bench_paint(web, rules, state, folk, mood):
+    """A bench's state behind a painting."""
+    bench = Bench(web, rules, state)
+    bench.paint(folk, mood)
+    return bench.state
+
+
+def bench_apart(web, rules, state, other):
+    """How many are apart on a bench, behind a tick."""
+    bench = Bench(web, rules, state)
+    bench.tick()
+    return bench.apart(other)
+
+
+def bench_back(web, rules, state):
+    """A bench's state behind a step back."""
+    bench = Bench(web, rules, state)
+    bench.back()
+    return bench.state
+
 
 # Functions with the names of their arguments, one of CHOICES each.
 FUNCTIONS = (
@@ -61,6 +94,20 @@ FUNCTIONS = (
     (tables, ("web", "folk")),
     (count_rules, ("web",)),
     (settled_counts, ("web",)),
+    (bench_look, ("web", "rules", "state", "folk")),
+    (bench_paint, ("web", "rules", "state", "folk", "mood")),
+    (bench_apart, ("web", "rules", "state", "state")),
+    (bench_back, ("web", "rules", "state")),
+    (web_text, ("web",)),
+    (rules_text, ("web", "rules")),
+    (state_text, ("web", "state")),
+    (read_web, ("web's text",)),
+    (read_rules, ("web", "rules' text")),
+    (read_state, ("web", "state's text")),
+    (rules_by, ("web", "ring")),
+    (pair_by, ("web", "ring")),
+    (pair_by, ("chase", "ring")),
+    (ring_tale, ("web", "ring")),
 )
 # The errors that come behind those of all arguments.
 BEHIND = {
@@ -70,6 +117,8 @@ BEHIND = {
     (mute, "web"): NoOdd,
     (depths, "web"): HasRing,
     (depth, "web"): HasRing,
+    (pair_by, "chase"): NoEven,
+    (bench_back, "web"): BadStep,
 }
 COPY = ((0, 1), (0, 1))
 # For each argument a value that is allowed, then wrong ones with the error of each.
@@ -102,6 +151,12 @@ CHOICES = {
         (2, (BadFolk, {})),
         ([0], (BadFolk, {})),
     ),
+    "mood": (
+        (1, None),
+        (True, (BadNumber, {})),
+        (2, (BadNumber, {})),
+        ((1,), (BadNumber, {})),
+    ),
     "ticks": (
         (1, None),
         (True, (BadNumber, {})),
@@ -133,6 +188,30 @@ CHOICES = {
         (None, (BadWord, {})),
         ("Odd", (BadWord, {})),
         (["odd"], (BadWord, {})),
+    ),
+    "web's text": (
+        ("folk 1 1\nlook 1 at 0 liking\n", None),
+        (None, (BadLine, {"line": 0})),
+        ("folk 1 1\nlook 1 at 0 liking", (BadLine, {"line": 1})),
+        (["folk 1\n"], (BadLine, {"line": 0})),
+    ),
+    "rules' text": (
+        ("0 tells 0 1\n1 tells 0 1\n", None),
+        (None, (BadLine, {"line": 0})),
+        ("0 tells 0 1\n1 tells 1 0\n", (BadLine, {"line": 1})),
+        ("0 tells 0 1\n1 tells 0 1\n\n", (BadLine, {"line": 2})),
+        (COPY, (BadLine, {"line": 0})),
+    ),
+    "state's text": (
+        ("0 1", None),
+        (None, (BadLine, {"line": 0})),
+        ("0 2", (BadLine, {"line": 0})),
+        ((0, 1), (BadLine, {"line": 0})),
+    ),
+    "chase": (
+        (CHASE, None),
+        (None, (BadWeb, {"part": "web"})),
+        ((CHASE[0], CHASE[1][::-1]), (BadWeb, {"part": "looks"})),
     ),
     "chain": (
         (((1, 2), ((1, 0, -1),)), None),

@@ -35,6 +35,19 @@ INTERFACE = {
         "turned": ["web", "lot"], "turned_state": ["web", "state", "lot"], "turned_rules": ["web", "rules", "lot"],
     },
     "counts": {"tables": ["web", "folk"], "settled_counts": ["web"], "count_rules": ["web"]},
+    "benches": {"Bench": ["self", "web", "rules", "state"]},
+    "texts": {
+        "web_text": ["web"], "rules_text": ["web", "rules"], "state_text": ["web", "state"], "read_web": ["text"],
+        "read_rules": ["web", "text"], "read_state": ["web", "text"],
+    },
+    "tales": {"rules_by": ["web", "ring"], "pair_by": ["web", "ring"], "ring_tale": ["web", "ring"]},
+}
+# The methods and the properties that stand in a class itself.
+METHODS = {
+    ("benches", "Bench"): {
+        "tick": ["self"], "look": ["self", "folk"], "paint": ["self", "folk", "mood"], "back": ["self"],
+        "apart": ["self", "other"], "state": ["self"], "uneasy": ["self"], "near": ["self"],
+    },
 }
 
 
@@ -91,6 +104,15 @@ class Layout(unittest.TestCase):
                 with self.subTest(module=module, name=name):
                     self.assertIn(name, found)
                     self.assertEqual(found[name], arguments)
+
+    def test_methods_stand_in_the_class_itself(self):
+        for (module, name), methods in METHODS.items():
+            body = tree_of(PACKAGE / f"{module}.py").body
+            node = next(node for node in body if isinstance(node, ast.ClassDef) and node.name == name)
+            found = {part.name: arguments_of(part) for part in node.body if isinstance(part, ast.FunctionDef)}
+            for method, arguments in methods.items():
+                with self.subTest(module=module, method=method):
+                    self.assertEqual(found.get(method), arguments)
 
 
 class Readme(unittest.TestCase):
