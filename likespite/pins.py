@@ -22,15 +22,18 @@ def meets_all(lot, groups):
     return all(meets(lot, group) for group in groups)
 
 
-def least_lots(many, groups):
+def least_lots(many, fits):
+    """The ascending tuple of the lots of numbers below many that fit, as few as can be, () if none fits."""
+    for size in range(many + 1):
+        found = [lot for lot in lots_of(many, size) if fits(lot)]
+        if found:
+            return tuple(found)
+    return ()
+
+
+def least_meeting(many, groups):
     """The ascending tuple of the lots of numbers below many, as few as can be, that have some of each group."""
-    size = 0
-    found = []
-    # The lot of all has some of each group, so the loop ends.
-    while not found:
-        found = [lot for lot in lots_of(many, size) if meets_all(lot, groups)]
-        size += 1
-    return tuple(found)
+    return least_lots(many, lambda lot: meets_all(lot, groups))
 
 
 def folk_of(web, ring):
@@ -42,6 +45,11 @@ def folk_of(web, ring):
 def folk_of_even_rings(web):
     """For each even ring the folk through whom it goes."""
     return [folk_of(web, ring) for ring in even_rings(web)]
+
+
+def folk_of_rings(web):
+    """For each ring the folk through whom it goes."""
+    return [folk_of(web, ring) for ring in all_rings(web)]
 
 
 def many_moods(web, lot):
@@ -75,7 +83,7 @@ def pins(web):
     """The ascending tuple of the lots of folk, as few as can be, that have somebody of each even ring."""
     check_web(web)
     tops, _ = web
-    return least_lots(len(tops), folk_of_even_rings(web))
+    return least_meeting(len(tops), folk_of_even_rings(web))
 
 
 def bound(web):
@@ -98,4 +106,4 @@ def cuts(web, word):
     if word not in ("odd", "even", "any"):
         raise BadWord()
     _, looks = web
-    return least_lots(len(looks), rings_of_kind(web, word))
+    return least_meeting(len(looks), rings_of_kind(web, word))

@@ -33,6 +33,19 @@ LONG_RULES = digits(
 )
 LONG_STATE = (3, 1, 3, 2, 3, 3)
 
+# Webs with rules.
+VILLAGES = [
+    (FRIENDS, digits("01 01")), (FRIENDS, digits("00 11")), (CHASE, digits("10 01")), (CHASE, digits("11 01")),
+    (MIXED, MIXED_RULES), (SELF, SELF_RULES), (((1,), ()), ((1,),)), (((3, 2), ()), ((2,), (0,))),
+    (((3,), ((0, 0, 1),)), ((0, 1, 2, 3),)), (((3,), ((0, 0, 1),)), ((1, 1, 3, 3),)),
+    (((2,), ((0, 0, -1),)), ((2, 1, 0),)), (((1,), ((0, 0, -1),)), ((1, 0),)),
+]
+# Six folk and fourteen looks, liking and spite in turn.
+CROWD_PAIRS = (
+    (0, 1), (0, 2), (1, 0), (1, 2), (2, 3), (2, 4), (3, 4), (3, 5), (4, 0), (4, 3), (5, 0), (5, 1), (5, 4), (5, 5),
+)
+CROWD = ((1,) * 6, tuple((one, other, (-1) ** place) for place, (one, other) in enumerate(CROWD_PAIRS)))
+
 # No web, no rules, no state, and no number of folk or ticks, whatever web it is.
 STRANGE = [
     None, True, False, -1, 10**30, -(10**30), "", "web", "0", (), [], {}, [1], (None,), (True,), ((),), ("0",),
@@ -71,6 +84,18 @@ def told_by_word(web, rules, state, folk):
 def states_by_word(web):
     """All states, ascending."""
     return sorted(product(*[range(top + 1) for top in web[0]]))
+
+
+def are_rules_by_word(web, rules):
+    """Whether a value is rules of a web."""
+    if type(rules) is not tuple or len(rules) != len(web[0]):
+        return False
+    for folk, (top, table) in enumerate(zip(web[0], rules)):
+        if type(table) is not tuple or len(table) != len(rows_by_word(web, folk)[1]):
+            return False
+        if not all(type(mood) is int and 0 <= mood <= top for mood in table) or not table_by_word(web, folk, table):
+            return False
+    return True
 
 
 def all_tables_by_word(web, folk):
@@ -116,6 +141,20 @@ def is_even_by_word(web, ring):
     return product_of_signs == 1
 
 
+def around(signs, tops):
+    """A web of one ring with these signs."""
+    many = len(signs)
+    return tops, tuple(sorted((one, (one + 1) % many, sign) for one, sign in enumerate(signs)))
+
+
+ROUNDS = [
+    around(signs, tops)
+    for many in range(1, 7)
+    for signs in ((1,) * many, (-1,) + (1,) * (many - 1), (-1,) * many, (1,) * (many - 1) + (-1,))
+    for tops in ((1,) * many, (2,) * many, (3,) * many, (3, 1, 2, 1, 3, 2)[:many])
+]
+
+
 def some_web(random, most_folk=6, most_top=3, most_looks=14, most_of_one=4):
     """A web by a source of random numbers, with looks up to a number that is itself by chance."""
     many = random.randint(1, most_folk)
@@ -146,6 +185,14 @@ def some_rules(random, web):
             for row in rows
         ))
     return tuple(tables)
+
+
+def outcome(call, *values):
+    """What a call returns, or the class and the fields of the error that it raises, one of the package's."""
+    try:
+        return call(*values)
+    except FolkError as error:
+        return error.__class__, vars(error)
 
 
 def error_of(call, *values):

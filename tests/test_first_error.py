@@ -2,23 +2,27 @@
 
 import copy
 import unittest
-from itertools import product
+from itertools import combinations, product
 
-from helper import CHASE, FRIENDS, MIXED, MIXED_RULES, error_of
+from helper import CHASE, FRIENDS, MIXED, MIXED_RULES, STRANGE, error_of
 from likespite.benches import Bench
 from likespite.chains import depth, depths
 from likespite.counts import count_rules, settled_counts, tables
+from likespite.desks import Desk
 from likespite.errors import (
-    BadFolk, BadLine, BadLot, BadNumber, BadRing, BadRules, BadState, BadStep, BadWeb, BadWord, HasOdd, HasRing, NoEven,
-    NoOdd,
+    BadFolk, BadHeld, BadLine, BadLot, BadNumber, BadRing, BadRules, BadState, BadStep, BadWeb, BadWord, HasOdd, HasRing,
+    NoEven, NoOdd,
 )
+from likespite.holds import deciders, decides, held_states, holders
 from likespite.pins import bound, bound_lot, cuts, pins
 from likespite.rings import (
     at_least_one, at_most_one, even_ring, is_even, just_one, odd_ring, parts, rings, shows_even_ring, shows_odd_ring,
 )
 from likespite.rules import is_settled, run, settled, settled_by, told
 from likespite.sides import high, low, sides
+from likespite.signs import exchanged, exchanges, rings_through
 from likespite.spoils import mute, twofold
+from likespite.steps import come_to, ends, looks_to, shows_looks_to
 from likespite.tales import pair_by, ring_tale, rules_by
 from likespite.texts import read_rules, read_state, read_web, rules_text, state_text, web_text
 from likespite.turns import turned, turned_rules, turned_state
@@ -51,6 +55,12 @@ def bench_back(web, rules, state):
     bench = Bench(web, rules, state)
     bench.back()
     return bench.state
+
+
+def desk_do(web, rules, state, line):
+    """What a desk answers, and its state then."""
+    desk = Desk(web, rules, state)
+    return desk.do(line), desk.do("state")
 
 
 # Functions with the names of their arguments, one of CHOICES each.
@@ -108,6 +118,27 @@ FUNCTIONS = (
     (pair_by, ("web", "ring")),
     (pair_by, ("chase", "ring")),
     (ring_tale, ("web", "ring")),
+    (held_states, ("web", "rules", "held")),
+    (holders, ("web", "rules", "state")),
+    (decides, ("web", "lot")),
+    (deciders, ("web",)),
+    (come_to, ("web", "rules", "state")),
+    (looks_to, ("web", "rules", "state", "state")),
+    (shows_looks_to, ("web", "rules", "state", "state", "value")),
+    (ends, ("web", "rules")),
+    (exchanged, ("web", "lot")),
+    (exchanges, ("web", "word of two")),
+    (rings_through, ("web",)),
+    (desk_do, ("web", "rules", "state", "line")),
+)
+SHOWS = (
+    (shows_even_ring, (FRIENDS,)),
+    (shows_even_ring, (CHASE,)),
+    (shows_odd_ring, (FRIENDS,)),
+    (shows_odd_ring, (CHASE,)),
+    (shows_looks_to, (FRIENDS, ((0, 1), (0, 1)), (0, 1), (1, 1))),
+    (shows_looks_to, (FRIENDS, ((0, 1), (0, 1)), (1, 1), (0, 1))),
+    (shows_looks_to, (FRIENDS, ((0, 1), (0, 1)), (1, 1), (1, 1))),
 )
 # The errors that come behind those of all arguments.
 BEHIND = {
@@ -213,6 +244,29 @@ CHOICES = {
         (None, (BadWeb, {"part": "web"})),
         ((CHASE[0], CHASE[1][::-1]), (BadWeb, {"part": "looks"})),
     ),
+    "held": (
+        (((0, 1),), None),
+        (None, (BadHeld, {})),
+        ([(0, 1)], (BadHeld, {})),
+        (((0, 2),), (BadHeld, {})),
+        (((1, 0), (0, 0)), (BadHeld, {})),
+    ),
+    "word of two": (
+        ("odd", None),
+        ("any", (BadWord, {})),
+        (None, (BadWord, {})),
+        (["odd"], (BadWord, {})),
+    ),
+    "line": (
+        ("paint 0 1", None),
+        (None, (BadLine, {"line": 0})),
+        ("paint 9", (BadLine, {"line": 0})),
+        (["tick"], (BadLine, {"line": 0})),
+        ("paint 9 9", (BadFolk, {})),
+        ("paint 0 9", (BadNumber, {})),
+        ("apart 0 9", (BadState, {})),
+        ("back", (BadStep, {})),
+    ),
     "chain": (
         (((1, 2), ((1, 0, -1),)), None),
         ([], (BadWeb, {"part": "web"})),
@@ -229,6 +283,21 @@ CHOICES = {
         (((0, 1),), (BadRules, {"folk": 0})),
     ),
 }
+# The class of the error of a value that is no such argument at all, None where there is no error.
+KINDS = {
+    "web": BadWeb, "knot": BadWeb, "chain": BadWeb, "chase": BadWeb, "rules": BadRules, "knot rules": BadRules,
+    "state": BadState, "folk": BadFolk, "mood": BadNumber, "ticks": BadNumber, "ring": BadRing, "value": None,
+    "lot": BadLot, "word": BadWord, "word of two": BadWord, "held": BadHeld, "line": BadLine, "web's text": BadLine,
+    "rules' text": BadLine, "state's text": BadLine,
+}
+
+
+def kind_of_error(name, value):
+    """The class of the error of a strange value."""
+    # The tuple of nothing is a lot of nobody, and tells that nobody is held.
+    if name in ("lot", "held") and type(value) is tuple and value == ():
+        return None
+    return KINDS[name]
 
 
 def first_error(function, names, chosen):
@@ -247,11 +316,42 @@ class FirstError(unittest.TestCase):
                 with self.subTest(function=function.__name__, values=values):
                     self.assertEqual(error_of(function, *values), expected)
 
+    def test_each_strange_value(self):
+        for function, names in FUNCTIONS:
+            right = [CHOICES[name][0][0] for name in names]
+            behind = BEHIND.get((function, names[0]))
+            for at, name in enumerate(names):
+                for strange in STRANGE:
+                    values = right[:at] + [strange] + right[at + 1:]
+                    found = error_of(function, *values)
+                    with self.subTest(function=function.__name__, values=values):
+                        self.assertIs(found and found[0], kind_of_error(name, strange) or behind)
+
+    def test_two_strange_values(self):
+        for function, names in FUNCTIONS:
+            right = [CHOICES[name][0][0] for name in names]
+            for at, other in combinations(range(len(names)), 2):
+                for first, second in product(STRANGE, STRANGE[::4]):
+                    values = list(right)
+                    values[at], values[other] = first, second
+                    expected = kind_of_error(names[at], first) or kind_of_error(names[other], second)
+                    found = error_of(function, *values)
+                    self.assertIs(found and found[0], expected or BEHIND.get((function, names[0])), (function, values))
+
     def test_what_is_wrong_for_this_web_alone(self):
         self.assertEqual(error_of(told, MIXED, COPY, (0, 1), 3), (BadRules, {"folk": None}))
         self.assertEqual(error_of(told, MIXED, MIXED_RULES, (0, 1), 3), (BadState, {}))
         self.assertEqual(error_of(told, MIXED, MIXED_RULES, (0, 1, 1), 3), (BadFolk, {}))
         self.assertEqual(error_of(told, MIXED, MIXED_RULES, (0, 1, 1), 2), None)
+
+    def test_shows_tells_of_any_value(self):
+        values = STRANGE + [[value] for value in STRANGE] + [(value,) for value in STRANGE] + [
+            {"ring": value} for value in STRANGE
+        ] + [(0, value) for value in STRANGE] + [(0, 1), (0,), (1,), (1, 0), (0, 1, 0)]
+        for function, arguments in SHOWS:
+            told = [function(*arguments, value) for value in values]
+            self.assertTrue(all(answer is True or answer is False for answer in told))
+            self.assertEqual(told.count(True), 1, (function, arguments))
 
     def test_arguments_stay(self):
         for function, names in FUNCTIONS:

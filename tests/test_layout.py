@@ -41,6 +41,16 @@ INTERFACE = {
         "read_rules": ["web", "text"], "read_state": ["web", "text"],
     },
     "tales": {"rules_by": ["web", "ring"], "pair_by": ["web", "ring"], "ring_tale": ["web", "ring"]},
+    "holds": {
+        "held_states": ["web", "rules", "held"], "holders": ["web", "rules", "state"], "deciders": ["web"],
+        "decides": ["web", "lot"],
+    },
+    "steps": {
+        "come_to": ["web", "rules", "state"], "ends": ["web", "rules"], "looks_to": ["web", "rules", "state", "goal"],
+        "shows_looks_to": ["web", "rules", "state", "goal", "value"],
+    },
+    "signs": {"exchanged": ["web", "lot"], "exchanges": ["web", "word"], "rings_through": ["web"]},
+    "desks": {"Desk": ["self", "web", "rules", "state"]},
 }
 # The methods and the properties that stand in a class itself.
 METHODS = {
@@ -48,6 +58,7 @@ METHODS = {
         "tick": ["self"], "look": ["self", "folk"], "paint": ["self", "folk", "mood"], "back": ["self"],
         "apart": ["self", "other"], "state": ["self"], "uneasy": ["self"], "near": ["self"],
     },
+    ("desks", "Desk"): {"do": ["self", "line"]},
 }
 
 

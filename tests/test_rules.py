@@ -3,7 +3,7 @@
 import unittest
 
 from helper import (
-    CHASE, FRIENDS, LONG, LONG_RULES, LONG_STATE, MIXED, MIXED_RULES, SELF, SELF_RULES, STRANGE, digits, error_of,
+    CHASE, FRIENDS, LONG, LONG_RULES, LONG_STATE, MIXED, MIXED_RULES, SELF, SELF_RULES, STRANGE, VILLAGES, digits, error_of,
     states_by_word, told_by_word,
 )
 from likespite.errors import BadFolk, BadNumber, BadState
@@ -11,11 +11,6 @@ from likespite.rules import is_settled, run, settled, settled_by, told
 
 COPY = ((0, 1), (0, 1))
 CIRCLE = ((1, 0), (0, 1))
-VILLAGES = (
-    (FRIENDS, COPY), (FRIENDS, digits("00 11")), (CHASE, CIRCLE), (CHASE, digits("11 01")), (MIXED, MIXED_RULES),
-    (SELF, SELF_RULES), (((1,), ()), ((1,),)), (((3, 2), ()), ((2,), (0,))), (((3,), ((0, 0, 1),)), ((0, 1, 2, 3),)),
-    (((3,), ((0, 0, 1),)), ((1, 1, 3, 3),)), (((2,), ((0, 0, -1),)), ((2, 1, 0),)), (((1,), ((0, 0, -1),)), ((1, 0),)),
-)
 
 
 def after(web, rules, state):

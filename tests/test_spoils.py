@@ -3,42 +3,18 @@
 import unittest
 
 from helper import (
-    CHASE, FRIENDS, LONG, MIXED, SELF, STRANGE, error_of, is_even_by_word, rings_by_word, rows_by_word, settled_by_word, some_webs,
-    table_by_word,
+    CHASE, FRIENDS, LONG, MIXED, ROUNDS, SELF, STRANGE, are_rules_by_word, error_of, is_even_by_word, rings_by_word,
+    settled_by_word, some_webs,
 )
 from likespite.errors import BadWeb, NoEven, NoOdd
 from likespite.rules import settled
 from likespite.spoils import mute, twofold
 
 FOES = ((1, 1), ((0, 1, -1), (1, 0, -1)))
-
-
-def around(signs, tops):
-    """A web of one ring with these signs."""
-    many = len(signs)
-    return tops, tuple(sorted((one, (one + 1) % many, sign) for one, sign in enumerate(signs)))
-
-
-ROUNDS = [
-    around(signs, tops)
-    for many in range(1, 7)
-    for signs in ((1,) * many, (-1,) + (1,) * (many - 1), (-1,) * many, (1,) * (many - 1) + (-1,))
-    for tops in ((1,) * many, (2,) * many, (3,) * many, (3, 1, 2, 1, 3, 2)[:many])
-]
 WEBS = ROUNDS + some_webs(17, 150) + some_webs(18, 60, most_folk=3) + [FRIENDS, CHASE, MIXED, SELF, LONG, FOES]
 
 
 class Spoils(unittest.TestCase):
-    def assert_rules(self, web, rules):
-        """By the document's words alone."""
-        self.assertIs(type(rules), tuple)
-        self.assertEqual(len(rules), len(web[0]))
-        for folk, table in enumerate(rules):
-            self.assertIs(type(table), tuple)
-            self.assertEqual(len(table), len(rows_by_word(web, folk)[1]))
-            self.assertTrue(all(type(mood) is int and 0 <= mood <= web[0][folk] for mood in table))
-            self.assertTrue(table_by_word(web, folk, table))
-
     def test_document(self):
         self.assertEqual(settled(CHASE, mute(CHASE)), ())
         self.assertGreater(len(settled(FOES, twofold(FOES))), 1)
@@ -65,7 +41,7 @@ class Spoils(unittest.TestCase):
                 if True in kinds:
                     tried["even"] += 1
                     rules = twofold(web)
-                    self.assert_rules(web, rules)
+                    self.assertTrue(are_rules_by_word(web, rules))
                     self.assertGreaterEqual(len(settled_by_word(web, rules)), 2)
                 else:
                     tried["no even"] += 1
@@ -73,7 +49,7 @@ class Spoils(unittest.TestCase):
                 if False in kinds:
                     tried["odd"] += 1
                     rules = mute(web)
-                    self.assert_rules(web, rules)
+                    self.assertTrue(are_rules_by_word(web, rules))
                     self.assertEqual(settled_by_word(web, rules), ())
                 else:
                     tried["no odd"] += 1

@@ -5,8 +5,8 @@ from itertools import product
 from random import Random
 
 from helper import (
-    CHASE, FRIENDS, LONG, MIXED, SELF, STRANGE, error_of, is_even_by_word, rings_by_word, rows_by_word, settled_by_word,
-    some_webs, states_by_word, table_by_word, told_by_word,
+    CHASE, FRIENDS, LONG, MIXED, ROUNDS, SELF, STRANGE, are_rules_by_word, around, error_of, is_even_by_word,
+    rings_by_word, settled_by_word, some_webs, states_by_word, told_by_word,
 )
 from likespite.errors import BadRing, BadWeb, NoEven
 from likespite.rules import is_settled, settled
@@ -21,12 +21,6 @@ NO_RINGS = [
 ]
 
 
-def around(signs, tops):
-    """A web of one ring with these signs."""
-    many = len(signs)
-    return tops, tuple(sorted((one, (one + 1) % many, sign) for one, sign in enumerate(signs)))
-
-
 def with_more_looks(random, web):
     """The web with some further looks at anybody, four of each one's at the most."""
     tops, looks = web
@@ -39,12 +33,6 @@ def with_more_looks(random, web):
     return tops, tuple(sorted((one, other, sign) for (one, other), sign in found.items()))
 
 
-ROUNDS = [
-    around(signs, tops)
-    for many in range(1, 7)
-    for signs in ((1,) * many, (-1,) + (1,) * (many - 1), (-1,) * many, (1,) * (many - 1) + (-1,))
-    for tops in ((1,) * many, (2,) * many, (3,) * many, (3, 1, 2, 1, 3, 2)[:many])
-]
 RANDOM = Random(81)
 WEBS = (
     ROUNDS + [with_more_looks(RANDOM, web) for web in ROUNDS] + some_webs(82, 60, most_folk=4)
@@ -105,23 +93,13 @@ class RulesBy(unittest.TestCase):
         self.assertEqual(rules_by(web, (0, 1)), ((2, 2, 0, 0, 0, 0, 0, 0), (0,) * 8 + (3,) * 16, (0,)))
         self.assertEqual(rules_by(web, (2,)), ((0,) * 8, ((3, 3) + (0,) * 6) * 3, (0,)))
 
-    def assert_rules(self, web, rules):
-        """By the document's words alone."""
-        self.assertIs(type(rules), tuple)
-        self.assertEqual(len(rules), len(web[0]))
-        for folk, table in enumerate(rules):
-            self.assertIs(type(table), tuple)
-            self.assertEqual(len(table), len(rows_by_word(web, folk)[1]))
-            self.assertTrue(all(type(mood) is int and 0 <= mood <= web[0][folk] for mood in table))
-            self.assertTrue(len(table) > 40 or table_by_word(web, folk, table))
-
     def test_by_word(self):
         random = Random(83)
         tried = 0
         for web in WEBS:
             for ring in some_rings(random, web):
                 rules = rules_by(web, ring)
-                self.assert_rules(web, rules)
+                self.assertTrue(are_rules_by_word(web, rules))
                 states = states_by_word(web)
                 for state in random.sample(states, min(12, len(states))):
                     for folk in range(len(state)):

@@ -6,12 +6,11 @@ from random import Random
 
 from helper import (
     CHASE, FRIENDS, LONG, LONG_RULES, LONG_STATE, MIXED, MIXED_RULES, SELF, SELF_RULES, STRANGE, digits, error_of,
-    rows_by_word, some_rules, some_webs, states_by_word, table_by_word,
+    outcome, rows_by_word, some_rules, some_webs, states_by_word, table_by_word,
 )
 from likespite.errors import BadLine, BadRules, BadState, BadWeb
 from likespite.texts import read_rules, read_state, read_web, rules_text, state_text, web_text
 
-COPY = ((0, 1), (0, 1))
 SIX = ((1, 2, 3, 1, 2, 3), tuple(sorted(
     (one, other, 1 if one < other else -1)
     for one, other in (
@@ -40,11 +39,6 @@ NO_NEWLINES = ("\r", "\r\n", "\x0b", "\x0c", "\x1c", "\x85", "\u2028", " \n", "\
 
 def bad(line):
     return BadLine, {"line": line}
-
-
-def outcome(function, *values):
-    """What is returned, or the class and the fields of the error."""
-    return error_of(function, *values) or function(*values)
 
 
 def lines_by_word(text):
